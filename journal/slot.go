@@ -1,4 +1,4 @@
-// Package journal has the slots in which faults are written down.
+// Package journal writes down faults, into the slots of a flash.
 package journal
 
 import (
