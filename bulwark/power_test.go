@@ -100,3 +100,35 @@ func TestP6PowerThatIsNotNeeded(t *testing.T) {
 	inject(t, k, 0, 0, 0)
 	want(t, "P6: the power is back", k, 0, "1 0 [0 0] 1/0s", "001")
 }
+
+// Of several faults in a tick those ahead of the loss stay done, though the tick is not.
+func TestP6PowerIsLostWithinATick(t *testing.T) {
+	dueIn := func(ticks int) api.Partition {
+		return partition(9, "115114", process(0, api.ADD, 1, api.STORE, 0, api.DEADLINE, ticks, api.WAIT, 200, api.NOP, 0))
+	}
+	petted := partition(9, "111511", process(0, api.ADD, 1, api.PET, 0, api.ADD, 1, api.RAISE, 0, api.NOP, 0))
+	for _, c := range []struct {
+		name   string
+		config api.Config
+		cut    int
+		done   int
+		views  []string
+		log    string
+	}{
+		{"two deadlines, the first", inTurn(dueIn(8), dueIn(7)), 20, 12, []string{"1 0 [1 0] 4/1", "1 0 [1 0] 4/1"}, ""},
+		{"two deadlines, the second", inTurn(dueIn(8), dueIn(7)), 33 + 4, 12, []string{"1 1 [0 0] 0/0", "1 0 [1 0] 4/1"}, "025"},
+		{"a deadline, and the watch of the other", watched(12, inTurn(dueIn(8), dueIn(8))), 33, 12, []string{"1 1 [0 0] 0/0", "1 0 [1 0] 4/1"}, "025"},
+		{"three watches, the third", watched(3, inTurn(dueIn(9), dueIn(9), dueIn(9))), 33 + 16 + 15, 3, []string{"2 1 [0 0] 0/0", "2 1 [0 0] 0/0", "1 0 [0 0] 1/1"}, "054 154"},
+		{"the watch of the other, and RAISE", watched(6, inTurn(petted, dueIn(9))), 33, 6, []string{"1 0 [0 0] 4/2", "2 1 [1 0] 0/0"}, "154"},
+	} {
+		f := api.NewFlash(nil)
+		k := booted(t, c.config, f)
+		f.Cut(c.cut, 255)
+		if done, e := k.Tick(50); done != c.done || e != api.ErrPower || k.Now() != c.done {
+			t.Errorf("P6: %s: %d, %d, tick %d, want %d, ErrPower", c.name, done, e, k.Now(), c.done)
+		}
+		for part, view := range c.views {
+			want(t, "P6: "+c.name, k, part, view, c.log)
+		}
+	}
+}
